@@ -47,6 +47,7 @@ type otherWay struct {
 	counts                 bool
 	fuel, uses, begun, now int
 	numbers                int
+	waits                  bool // whether the last thing takes its number only if there is one behind it
 	kept                   []*otherPlace
 	macros                 []otherMacro
 	constants              []otherThing
@@ -401,10 +402,14 @@ func (o *otherWay) scan(l []api.Datum, p *otherPlace, all bool) ([]otherThing, [
 	}
 	d, rest := o.unfold(l[0], p), l[1:]
 	kind, what := o.head(d, p)
+	if kind+what == "formbegin" {
+		return o.scan(slices.Concat(d.List[1:], rest), p, all)
+	}
+	if o.waits {
+		o.numbers, o.waits = o.numbers+1, false
+	}
 	thing := otherThing{at: o.now}
 	switch {
-	case kind+what == "formbegin":
-		return o.scan(slices.Concat(d.List[1:], rest), p, all)
 	case kind+what == "formdefine" && len(d.List) == 3 && d.List[1].Kind == api.DatSymbol:
 		o.check(!p.has(d.List[1].Text), api.ErrExpandTwice)
 		thing.name, thing.datum = o.bind(p, d.List[1].Text), d.List[2]
@@ -418,7 +423,8 @@ func (o *otherWay) scan(l []api.Datum, p *otherPlace, all bool) ([]otherThing, [
 		o.bindMacro(p, d.List[1].Text, d.List[2], p)
 		thing.ofMacro = true
 	case all:
-		thing.name, thing.datum, thing.none = o.name("e"), d, true
+		thing.name, thing.datum, thing.none = "e."+strconv.Itoa(o.numbers), d, true
+		o.waits = true
 	default:
 		return nil, slices.Concat(rows(d), rest)
 	}
@@ -512,7 +518,7 @@ func (o *otherWay) program(l []api.Datum) (string, int) {
 		more, _ := o.scan(rows(d), own, true)
 		things = append(things, more...)
 	}
-	o.counts = false
+	o.counts, o.waits = false, false
 	known, values := o.values(given, prelude)
 	o.counts = true
 	names, texts := o.values(things, own)

@@ -19,6 +19,7 @@ func (x *expander) program(l []api.Datum) (api.Expr, api.Errno) {
 	if wrong != api.OK {
 		return api.Expr{}, wrong
 	}
+	gathered, last := x.parted(gathered)
 	x.ofProgram = false
 	known, values, wrong := x.values(given, ahead)
 	if wrong != api.OK {
@@ -29,13 +30,32 @@ func (x *expander) program(l []api.Datum) (api.Expr, api.Errno) {
 	if wrong != api.OK {
 		return api.Expr{}, wrong
 	}
-	x.from = len(l)
-	result := prim("void")
-	if n := len(gathered); n > 0 && gathered[n-1].plain {
-		last := len(kids) - 1
-		result, names, kids = kids[last], names[:last], kids[:last]
+	result, wrong := x.result(last, own)
+	if wrong != api.OK {
+		return api.Expr{}, wrong
 	}
+	x.from = len(l)
 	return x.whole(supply{names: known, values: values}, names, kids, result)
+}
+
+// parted takes the last datum that a program came to away from the others, if it is no definition; else there is none of it.
+func (x *expander) parted(gathered []definition) ([]definition, []definition) {
+	end := len(gathered)
+	if end == 0 || !gathered[end-1].plain {
+		return gathered, nil
+	}
+	// It binds nothing, and nothing was bound behind it: its number is free for the next variable.
+	x.named--
+	return gathered[:end-1], gathered[end-1:]
+}
+
+// result is the expression of a program's last datum, if that is no definition.
+func (x *expander) result(last []definition, at *place) (api.Expr, api.Errno) {
+	if len(last) == 0 {
+		return prim("void"), api.OK
+	}
+	x.from = last[0].from
+	return x.value(last[0], at)
 }
 
 // gather goes over all data; what is no definition becomes one, too.

@@ -217,6 +217,45 @@ func TestNewNames(t *testing.T) {
 	}
 }
 
+// The result binds nothing, so that it takes no number; only the last datum that the program came to is it, and only if it is no definition.
+func TestNewNamesOfAResult(t *testing.T) {
+	const (
+		f = "(lambda (x) x)"
+		n = "(define-syntax n (syntax-rules ())) "
+		m = "(define-syntax m (syntax-rules () ((_ y ...) (begin 1 y ...)))) "
+	)
+	for s, text := range map[string]string{
+		f:                                   "(lambda (x.80) x.80)",
+		"1 " + f:                            "(letrec ((e.18 (quote 1))) (lambda (x.81) x.81))",
+		"1 2 " + f:                          "(letrec ((e.18 (quote 1)) (e.19 (quote 2))) (lambda (x.82) x.82))",
+		"(define y 1) " + f:                 "(letrec ((y.18 (quote 1))) (lambda (x.81) x.81))",
+		f + " (define y 1)":                 "(letrec ((e.18 (lambda (x.82) x.82)) (y.19 (quote 1))) (prim void))",
+		f + n:                               "(letrec ((e.18 (lambda (x.81) x.81))) (prim void))",
+		n + f:                               "(lambda (x.80) x.80)",
+		"1 " + n + f:                        "(letrec ((e.18 (quote 1))) (lambda (x.81) x.81))",
+		"(define y " + f + ")":              "(letrec ((y.18 (lambda (x.81) x.81))) (prim void))",
+		"(begin " + f + ")":                 "(lambda (x.80) x.80)",
+		"(begin 1 (begin " + f + "))":       "(letrec ((e.18 (quote 1))) (lambda (x.81) x.81))",
+		f + "(begin) (begin (begin))":       "(lambda (x.80) x.80)",
+		"(begin " + f + " (begin)) (begin)": "(lambda (x.80) x.80)",
+		"(begin 1 (define y 2)) " + f:       "(letrec ((e.18 (quote 1)) (y.19 (quote 2))) (lambda (x.82) x.82))",
+		"(begin " + f + " (define y 2))":    "(letrec ((e.18 (lambda (x.82) x.82)) (y.19 (quote 2))) (prim void))",
+		m + "(m " + f + ")":                 "(letrec ((e.18 (quote 1))) (lambda (x.81) x.81))",
+		m + "(m (define y " + f + "))":      "(letrec ((e.18 (quote 1)) (y.19 (lambda (x.82) x.82))) (prim void))",
+		m + "(m) (m) (begin)":               "(letrec ((e.18 (quote 1))) (quote 1))",
+		"(quote (1))":                       "(let ((c.80 (prim cons (quote 1) (quote ())))) c.80)",
+		"\"\"":                              "(let ((c.80 (let ((s.81 (prim make-string (quote 0) (quote #\\x00)))) s.81))) c.80)",
+		"\"\" (define y 1)":                 "(let ((c.82 (let ((s.83 (prim make-string (quote 0) (quote #\\x00)))) s.83))) (letrec ((e.18 c.82) (y.19 (quote 1))) (prim void)))",
+		"(lambda () #()) #()":               "(let ((c.81 (let ((w.83 (prim make-vector (quote 0) (quote #f)))) w.83)) (c.82 (let ((w.84 (prim make-vector (quote 0) (quote #f)))) w.84))) (letrec ((e.18 (lambda () c.81))) c.82))",
+		"":                                  "(prim void)",
+	} {
+		e, _, wrong := Program(of(s), 5)
+		if got := toldAs(e); got != text || wrong != api.OK {
+			t.Errorf("%s:\n%s, %v; want\n%s", s, got, wrong, text)
+		}
+	}
+}
+
 // rootsInOrder are the roots of the names that are bound in an expression, in the order of their numbers.
 func rootsInOrder(e api.Expr) []string {
 	number := func(name string) int {
