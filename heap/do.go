@@ -118,7 +118,7 @@ func (h *Heap) is(v api.Val, w want) bool {
 }
 
 func (h *Heap) isThing(v api.Val, kind int) bool {
-	return v.Kind == api.ValThing && h.things[v.Int].Kind == kind
+	return v.Kind == api.ValThing && h.things[v.Int].kind == kind
 }
 
 // done is what a primitive makes of arguments that are what it wants.
@@ -129,17 +129,17 @@ func (h *Heap) done(prim string, args []api.Val) (api.Val, api.Errno) {
 	case "make-string":
 		return h.filled(api.ThingString, args[0].Int, args[1])
 	case "car", "%unbox":
-		return h.part(args[0], 0)
+		return h.thingOf(args[0]).part(0)
 	case "cdr":
-		return h.part(args[0], 1)
+		return h.thingOf(args[0]).part(1)
 	case "vector-ref", "string-ref":
-		return h.part(args[0], args[1].Int)
+		return h.thingOf(args[0]).part(args[1].Int)
 	case "set-car!", "%set-box!":
-		return h.put(args[0], 0, args[1])
+		return h.thingOf(args[0]).change(0, args[1])
 	case "set-cdr!":
-		return h.put(args[0], 1, args[1])
+		return h.thingOf(args[0]).change(1, args[1])
 	case "vector-set!", "string-set!":
-		return h.put(args[0], args[1].Int, args[2])
+		return h.thingOf(args[0]).change(args[1].Int, args[2])
 	case "integer->char":
 		return charOf(args[0].Int)
 	}
@@ -153,11 +153,11 @@ func (h *Heap) done(prim string, args []api.Val) (api.Val, api.Errno) {
 func (h *Heap) sure(prim string, args []api.Val) api.Val {
 	switch prim {
 	case "cons":
-		return h.add(api.ThingPair, slices.Clone(args))
+		return h.add(api.ThingPair, len(args), slices.Clone(args))
 	case "%box":
-		return h.add(api.ThingBox, slices.Clone(args))
+		return h.add(api.ThingBox, len(args), slices.Clone(args))
 	case "vector-length", "string-length":
-		return number(len(h.things[args[0].Int].Parts))
+		return number(h.thingOf(args[0]).size)
 	case "char->integer":
 		return number(args[0].Int)
 	case "<":
@@ -236,22 +236,8 @@ func (h *Heap) filled(kind, size int, part api.Val) (api.Val, api.Errno) {
 	if size < 0 || size > api.MaxFill {
 		return api.Val{}, api.ErrRunRange
 	}
-	return h.add(kind, slices.Repeat([]api.Val{part}, size)), api.OK
+	return h.add(kind, size, []api.Val{part}), api.OK
 }
 
-func (h *Heap) part(of api.Val, at int) (api.Val, api.Errno) {
-	parts := h.things[of.Int].Parts
-	if at < 0 || at >= len(parts) {
-		return api.Val{}, api.ErrRunRange
-	}
-	return parts[at], api.OK
-}
-
-func (h *Heap) put(of api.Val, at int, part api.Val) (api.Val, api.Errno) {
-	parts := h.things[of.Int].Parts
-	if at < 0 || at >= len(parts) {
-		return api.Val{}, api.ErrRunRange
-	}
-	parts[at] = part
-	return api.Val{Kind: api.ValVoid}, api.OK
-}
+// thingOf is of a value that tells of one.
+func (h *Heap) thingOf(v api.Val) *piece { return &h.things[v.Int] }

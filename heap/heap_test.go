@@ -2,6 +2,7 @@ package heap
 
 import (
 	"math"
+	"runtime"
 	"scrimshaw/api"
 	"slices"
 	"strings"
@@ -232,4 +233,31 @@ func TestDataOfNoConst(t *testing.T) {
 			t.Errorf("a datum of kind %d: %s, %v", d.Kind, rawVal(v), is)
 		}
 	}
+}
+
+// Whoever makes many things that are filled has room for them, and for what is put there.
+func TestWhatIsFilledTakesLittleRoom(t *testing.T) {
+	h := New()
+	var was, is runtime.MemStats
+	runtime.ReadMemStats(&was)
+	for i := range 20000 {
+		v := do(t, h, "make-vector", num(1000), num(i))
+		text := do(t, h, "make-string", num(1000), chr(65))
+		do(t, h, "vector-set!", v, num(i%1000), text)
+		do(t, h, "string-set!", text, num(999), chr(66))
+	}
+	runtime.ReadMemStats(&is)
+	if room := is.TotalAlloc - was.TotalAlloc; room > 100<<20 {
+		t.Errorf("%d bytes", room)
+	}
+	for i, text := range []int{1, 19999, 39999} {
+		v := thing(text - 1)
+		n := text / 2
+		at := n % 1000
+		other := (at + 1) % 1000
+		if do(t, h, "vector-ref", v, num(at)) != thing(text) || do(t, h, "vector-ref", v, num(other)) != num(n) || do(t, h, "string-ref", thing(text), num(998)) != chr(65) || do(t, h, "string-ref", thing(text), num(999)) != chr(66) {
+			t.Error(i)
+		}
+	}
+	runtime.KeepAlive(h)
 }

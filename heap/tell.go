@@ -1,6 +1,7 @@
 package heap
 
 import (
+	"iter"
 	"scrimshaw/api"
 	"scrimshaw/data"
 )
@@ -16,7 +17,7 @@ func (h *Heap) Tell(v api.Val) (api.Datum, bool) {
 
 // teller counts the values that were looked at, so that it ends also where things are within themselves.
 type teller struct {
-	things []api.Thing
+	things []piece
 	looked int
 }
 
@@ -29,14 +30,14 @@ func (t *teller) value(v api.Val, within int) (api.Datum, bool) {
 	if v.Kind != api.ValThing {
 		return shown(v), true
 	}
-	thing := t.things[v.Int]
-	switch thing.Kind {
+	thing := &t.things[v.Int]
+	switch thing.kind {
 	case api.ThingPair:
-		return t.pair(thing.Parts, within)
+		return t.pair(thing.first, within)
 	case api.ThingVector:
-		return t.vector(thing.Parts, within)
+		return t.vector(thing.parts(), within)
 	case api.ThingString:
-		return api.Datum{Kind: api.DatString, Text: textOf(thing.Parts)}, true
+		return api.Datum{Kind: api.DatString, Text: textOf(thing.parts())}, true
 	case api.ThingBox:
 		return symbol("box"), true
 	}
@@ -55,9 +56,9 @@ func (t *teller) pair(parts []api.Val, within int) (api.Datum, bool) {
 	return data.Make([]api.Datum{first}, second), true
 }
 
-func (t *teller) vector(parts []api.Val, within int) (api.Datum, bool) {
+func (t *teller) vector(parts iter.Seq[api.Val], within int) (api.Datum, bool) {
 	out := api.Datum{Kind: api.DatVector}
-	for _, part := range parts {
+	for part := range parts {
 		d, is := t.value(part, within+1)
 		if !is {
 			return api.Datum{}, false
@@ -90,9 +91,9 @@ func shown(v api.Val) api.Datum {
 
 func symbol(s string) api.Datum { return api.Datum{Kind: api.DatSymbol, Text: s} }
 
-func textOf(chars []api.Val) string {
+func textOf(chars iter.Seq[api.Val]) string {
 	var bytes []byte
-	for _, c := range chars {
+	for c := range chars {
 		bytes = append(bytes, byte(c.Int))
 	}
 	return string(bytes)
