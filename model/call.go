@@ -4,7 +4,7 @@ import "scrimshaw/api"
 
 // made is the value of a new procedure.
 func (m *machine) made(p procedure) api.Val {
-	v, _ := m.heap.Make(api.ThingProc, nil)
+	v := m.Procedure()
 	m.procedures[v.Int] = p
 	return v
 }
@@ -38,49 +38,11 @@ func (p procedure) wanted() int {
 
 // primitive does what one makes of its arguments.
 func (m *machine) primitive(prim string, args []api.Val) api.Errno {
-	switch prim {
-	case "read-u8":
-		m.tell(m.read())
-	case "write-u8":
-		return m.write(args[0])
-	case "error":
-		return api.ErrRunUser
-	case "%winders":
-		m.tell(m.winders)
-	case "%wind!":
-		m.winders = args[0]
-		m.tell(void())
-	case "%callcc":
+	if prim == "%callcc" {
 		var values *row
 		return m.call(values.with(args[0]).with(m.made(procedure{next: m.next})))
-	default:
-		v, wrong := m.heap.Do(prim, args)
-		m.tell(v)
-		return wrong
 	}
-	return api.OK
+	v, wrong := m.Do(prim, args)
+	m.tell(v)
+	return wrong
 }
-
-// read is the next byte of the input.
-func (m *machine) read() api.Val {
-	if m.input == "" {
-		return api.Val{Kind: api.ValEof}
-	}
-	b := m.input[0]
-	m.input = m.input[1:]
-	return api.Val{Kind: api.ValInt, Int: int(b)}
-}
-
-func (m *machine) write(v api.Val) api.Errno {
-	if v.Kind != api.ValInt {
-		return api.ErrRunType
-	}
-	if v.Int < 0 || v.Int > maxByte {
-		return api.ErrRunRange
-	}
-	m.output = append(m.output, byte(v.Int))
-	m.tell(void())
-	return api.OK
-}
-
-func void() api.Val { return api.Val{Kind: api.ValVoid} }

@@ -2,17 +2,14 @@ package model
 
 import (
 	"scrimshaw/api"
-	"scrimshaw/heap"
+	"scrimshaw/world"
 )
 
 // machine evaluates an expression now, or, if there is none, hands a value on to what is next.
 type machine struct {
-	heap       *heap.Heap
+	*world.World
 	procedures map[int]procedure // by the numbers of their things
-	winders    api.Val
-	input      string // what is left of it
-	output     []byte
-	steps      int // how many there are
+	steps      int               // how many there are
 	taken      int
 	now        *part
 	where      *scope // what now's names mean
@@ -115,7 +112,7 @@ func (m *machine) goOn() api.Errno {
 	case api.ExpSet:
 		f.where.change(f.of.variable, m.value)
 		m.next = f.next
-		m.tell(void())
+		m.tell(api.Val{Kind: api.ValVoid})
 		return api.OK
 	case api.ExpIf:
 		if m.value == (api.Val{Kind: api.ValBool}) {

@@ -5,7 +5,7 @@ import (
 	"runtime"
 	"scrimshaw/api"
 	"scrimshaw/core"
-	"scrimshaw/heap"
+	"scrimshaw/world"
 	"strconv"
 	"testing"
 )
@@ -241,7 +241,7 @@ func TestRoom(t *testing.T) {
 func TestALoopKeepsNothing(t *testing.T) {
 	e := placed(of("(letrec ((f (lambda (x) (begin 1 (if x (let ((y (+ x 1))) (f y)) 2))))) (f 1))"))
 	inUse := func(steps int) uint64 {
-		m := machine{heap: heap.New(), procedures: map[int]procedure{}, steps: steps, now: &e}
+		m := machine{World: world.New(""), procedures: map[int]procedure{}, steps: steps, now: &e}
 		m.run()
 		var is runtime.MemStats
 		runtime.GC()
