@@ -72,7 +72,7 @@ func TestGrown(t *testing.T) {
 			t.Parallel()
 			g := grower{rand.New(rand.NewSource(int64(1700 + seed)))}
 			live, dead, across := 0, 0, 0
-			for range 1500 {
+			for range 800 {
 				p := g.grown()
 				wantAll(t, p)
 				g.wantNumbersApart(t, p)
@@ -86,7 +86,7 @@ func TestGrown(t *testing.T) {
 					across += len(Across(p, block))
 				}
 			}
-			if live < 10000 || dead < 10000 || across < 1000 {
+			if live < 5000 || dead < 5000 || across < 500 {
 				t.Error(live, dead, across)
 			}
 		})
